@@ -1,0 +1,1 @@
+"""Evenwheels: wheels that touch one another, share what meets, and roll on."""
