@@ -1,0 +1,104 @@
+"""The WEB: LOTS of wheels that hang together, and the WAYS from TOUCH to TOUCH."""
+
+from evenwheels.errors import NoTouch
+from evenwheels.fractions import half, plus
+from evenwheels.loads import need_beats, need_load
+from evenwheels.machines import need_machine, need_spot, need_touch, need_wheel
+
+
+def lots(machine):
+    """A tuple of all LOTS, rising tuples of wheels, by their first wheels."""
+    need_machine(machine)
+    found = []
+    for wheel in range(len(machine[0])):
+        lot = _lot_from(machine, wheel)
+        if lot[0] == wheel:
+            found.append(lot)
+    return tuple(found)
+
+
+def lot_of(machine, wheel):
+    """The LOT that has a wheel."""
+    need_wheel(machine, wheel)
+    return _lot_from(machine, wheel)
+
+
+def has_touch(machine, lot):
+    """Whether a LOT has a TOUCH."""
+    return any([pair[0][0] in lot for pair in machine[1]])
+
+
+def web(machine):
+    """A tuple of all WAYS, rising."""
+    need_machine(machine)
+    return tuple(sorted(ways_by_spot(machine).values()))
+
+
+def way_from(machine, spot):
+    """The WAY that leaves a SPOT of a TOUCH."""
+    need_spot(machine, spot)
+    ways = ways_by_spot(machine)
+    if spot not in ways:
+        raise NoTouch("a spot of no touch")
+    return ways[spot]
+
+
+def ways_to(machine, touch):
+    """The two WAYS that come to a TOUCH, rising."""
+    need_touch(machine, touch)
+    return tuple([way for way in web(machine) if way[2] == touch])
+
+
+def web_readings(machine, load, beats):
+    """What is read at beats 0 to beats - 1, a list, told by WAYS alone."""
+    need_load(machine, load)
+    need_beats(beats)
+    pairs = [ways_to(machine, touch) for touch in range(len(machine[1]))]
+    told = []
+    for _ in range(beats):
+        now = [half(plus(_what_comes(load, told, one), _what_comes(load, told, other))) for one, other in pairs]
+        told.append(tuple(now))
+    return told
+
+
+def ways_by_spot(machine):
+    """A dict of the WAY that leaves each SPOT of a TOUCH of what is known to be a MACHINE."""
+    touch_at = {spot: number for number, pair in enumerate(machine[1]) for spot in pair}
+    ways = {}
+    for spot in touch_at:
+        gap = _gap_from(machine, touch_at, spot)
+        ways[spot] = (touch_at[spot], spot, touch_at[_rolled(machine, spot, gap)], gap)
+    return ways
+
+
+def _lot_from(machine, wheel):
+    known = {wheel: True}
+    # Each round but the last one finds a wheel at the least.
+    for _ in machine[0]:
+        for one, other in machine[1]:
+            if one[0] in known or other[0] in known:
+                known[one[0]] = True
+                known[other[0]] = True
+    return tuple(sorted(known))
+
+
+def _rolled(machine, spot, beats):
+    wheel, place = spot
+    return (wheel, (place - beats) % machine[0][wheel])
+
+
+def _gap_from(machine, touch_at, spot):
+    gap = 1
+    while _rolled(machine, spot, gap) not in touch_at:
+        gap += 1
+    return gap
+
+
+def _what_comes(load, told, way):
+    touch, (wheel, place), _, gap = way
+    at = len(told)
+    if gap <= at:
+        return told[at - gap][touch]
+    # Not yet met: it stood at first so many places on from where it comes now.
+    row = load[wheel]
+    return row[(place - gap + at) % len(row)]
