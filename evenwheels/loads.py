@@ -55,7 +55,7 @@ def added(machine, load, other):
     """Two LOADS, place by place together."""
     need_load(machine, load)
     need_load(machine, other)
-    return tuple([tuple([plus(*pair) for pair in zip(row, beside)]) for row, beside in zip(load, other)])
+    return tuple([tuple([plus(worth, more) for worth, more in zip(row, beside)]) for row, beside in zip(load, other)])
 
 
 def scaled(machine, load, by):

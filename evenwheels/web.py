@@ -31,7 +31,8 @@ def has_touch(machine, lot):
 def web(machine):
     """A tuple of all WAYS, rising."""
     need_machine(machine)
-    return tuple(sorted(ways_by_spot(machine).values()))
+    ways = ways_by_spot(machine)
+    return tuple(sorted(ways.values()))
 
 
 def way_from(machine, spot):
@@ -73,7 +74,7 @@ def ways_by_spot(machine):
 
 def _lot_from(machine, wheel):
     known = {wheel: True}
-    # Each round but the last one finds a wheel at the least.
+    # So many rounds are enough: each one finds a wheel at the least, until all are found.
     for _ in machine[0]:
         for one, other in machine[1]:
             if one[0] in known or other[0] in known:

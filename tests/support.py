@@ -30,13 +30,17 @@ def within_itself():
     return thing
 
 
+DEEP_TUPLE = deep(tuple)
+DEEP_LIST = deep(list)
+
+
 def odd_things():
     """Things that are no machine, load, spot, number, fraction or paper, whatever is asked for."""
     return [
         None, True, False, 0.0, 1.0, 1.5, float("nan"), "", "x", "0", b"", b"xy", [], [0], {}, {0: 0}, set(), {1},
         frozenset(), object(), Same(), len, int, tuple, range(2), 1j, Fraction(1, 2), ValueError("x"),
         (None,), (True,), (None, None), (True, False), (1.0, 0), ("0", "1"), ((), None), ([], []), (0, 0, 0, None),
-        deep(tuple), deep(list), within_itself(), (within_itself(), within_itself()), (deep(tuple), deep(tuple)),
+        DEEP_TUPLE, DEEP_LIST, within_itself(), (within_itself(), within_itself()), (DEEP_TUPLE, DEEP_TUPLE),
     ]
 
 
@@ -52,10 +56,13 @@ SEVERAL_LOTS = ((3, 4, 6, 2, 8), (((0, 1), (2, 2)), ((1, 0), (4, 1)), ((1, 2), (
 MOST_WHEELS_ALL = ((1,) * 15 + (15,), tuple(((w, 0), (15, w)) for w in range(8)))
 MOST_CELLS_ALONE = ((30,), tuple(((0, p), (0, p + 8)) for p in range(8)))
 CHAIN = ((6, 9, 12), (((0, 0), (1, 1)), ((0, 3), (2, 5)), ((1, 4), (2, 0)), ((1, 7), (2, 3))))
+# A lot whose second wheel is told by its third one alone, and one told all the way from its last.
+WINDING = ((4, 4, 8), (((0, 1), (2, 2)), ((1, 3), (2, 5))))
+BACKWARD = ((6, 3, 6, 3), (((0, 1), (3, 2)), ((1, 2), (2, 0)), ((2, 2), (3, 0))))
 
 MACHINES = [
     ONE_CELL, LONELY, HALF_ROUND, UNEVEN_ROUND, TWO_WHEELS, TWICE, ONE_CELL_TOUCHES, SEVERAL_LOTS,
-    MOST_WHEELS_ALL, MOST_CELLS_ALONE, CHAIN,
+    MOST_WHEELS_ALL, MOST_CELLS_ALONE, CHAIN, WINDING, BACKWARD,
 ]
 
 

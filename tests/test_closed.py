@@ -9,8 +9,8 @@ from evenwheels.errors import BadMachine, OutOfPlace
 from evenwheels.shifts import g_of
 from evenwheels.web import lots, web
 from tests.support import (
-    HALF_ROUND, LONELY, MACHINES, MOST_CELLS_ALONE, ONE_CELL, SEVERAL_LOTS, TWICE, TWO_WHEELS, UNEVEN_ROUND, WheelTest,
-    deep, odd_things, some_machines, within_itself,
+    DEEP_TUPLE, HALF_ROUND, LONELY, MACHINES, MOST_CELLS_ALONE, ONE_CELL, SEVERAL_LOTS, TWICE, TWO_WHEELS,
+    UNEVEN_ROUND, WheelTest, odd_things, some_machines, within_itself,
 )
 
 # A round through three touches that goes one way alone.
@@ -52,8 +52,8 @@ class IsClosed(WheelTest):
     def test_anything(self):
         others = [(), [(0, 1)], [0, 1], ((False, 1),), ((0, True),), ([0, 1],), ((0, 1.0),), ((0, 1, 0),), ((0,),),
                   ((0, 6),), ((1, 0),), ((-1, 1),), ((0, -5),), ((0, 1), None), (None, (0, 1)), (0, 1), "ab", ("ab",),
-                  ((0, 10 ** 500),), {(0, 1): 1}, (within_itself(),), (deep(tuple),), ((deep(tuple), 0),),
-                  ((0, 1), (0, deep(tuple))), ((0, 1),) * 9999 + (None,)]
+                  ((0, 10 ** 500),), {(0, 1): 1}, (within_itself(),), (DEEP_TUPLE,), ((DEEP_TUPLE, 0),),
+                  ((0, 1), (0, DEEP_TUPLE)), ((0, 1),) * 9999 + (None,)]
         for at, thing in enumerate(others + odd_things()):
             self.assertIs(is_closed(ROUND, thing), False, at)
 
@@ -96,7 +96,7 @@ class Length(WheelTest):
         self.assertEqual(length(TWO_WHEELS, ((1, 0),)), 3)
 
     def test_out_of_place(self):
-        others = [(), ((0, 0),), [(0, 1)], ((0, True),), ONCE[::-1], list(ONCE), ((9, 9),), (deep(tuple),)]
+        others = [(), ((0, 0),), [(0, 1)], ((0, True),), ONCE[::-1], list(ONCE), ((9, 9),), (DEEP_TUPLE,)]
         for thing in others + odd_things():
             self.assert_text(OutOfPlace, length, ROUND, thing)
 

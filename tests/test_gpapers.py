@@ -8,7 +8,8 @@ from evenwheels.gpapers import check_g, g_paper
 from evenwheels.shifts import are_shifts, g_of, shifts
 from evenwheels.web import lots
 from tests.support import (
-    LONELY, MACHINES, SEVERAL_LOTS, TWICE, TWO_WHEELS, WheelTest, deep, odd_things, some_machines, within_itself,
+    DEEP_LIST, DEEP_TUPLE, LONELY, MACHINES, SEVERAL_LOTS, TWICE, TWO_WHEELS, WheelTest, odd_things, some_machines,
+    within_itself,
 )
 
 FOUR = ((0, 0), (0, 2))
@@ -65,7 +66,7 @@ class Refused(WheelTest):
 
     def test_no_tuple_of_two_tuples(self):
         others = [(), ((0, 1),), ((0, 1), (FOUR, SIX), ()), [(0, 1), (FOUR, SIX)], ([0, 1], (FOUR, SIX)),
-                  ((0, 1), [FOUR, SIX]), (None, ()), ((), None), "ab", ("a", "b"), (deep(list), ()), 2]
+                  ((0, 1), [FOUR, SIX]), (None, ()), ((), None), "ab", ("a", "b"), (DEEP_LIST, ()), 2]
         for paper in others + [thing for thing in odd_things() if type(thing) is not tuple or len(thing) != 2]:
             self.refused(None, paper)
         for thing in [thing for thing in odd_things() if type(thing) is not tuple]:
@@ -79,7 +80,7 @@ class Refused(WheelTest):
 
     def test_closed(self):
         others = [(), FOUR[:1], FOUR[:1] * 2, FOUR + FOUR[:1], ((0, 1), (0, 2)), ((0, 9), (0, 2)), list(FOUR),
-                  ((0, False), (0, 2)), (deep(tuple),), (within_itself(),), 4]
+                  ((0, False), (0, 2)), (DEEP_TUPLE,), (within_itself(),), 4]
         for way in others + odd_things():
             self.refused(("closed", 0), ((0, 1), (way,)))
             self.refused(("closed", 0), ((0, 1), (way, FOUR, None)))
@@ -108,7 +109,7 @@ class Refused(WheelTest):
 
     def test_shifts(self):
         others = [(0, 0), (1, 0), (1, 1), (0,), (), (0, 1, 0), (0, True), (False, 1), (0, 1.0), (0, -1), (0, 3), (2, 1),
-                  ("0", "1"), (None, None), (deep(tuple), within_itself())]
+                  ("0", "1"), (None, None), (DEEP_TUPLE, within_itself())]
         for told in others:
             self.refused("shifts", (told, (FOUR, SIX)))
 
@@ -134,13 +135,17 @@ class Refused(WheelTest):
         self.refused("shifts", ((5, 5, 5), (FOUR, SIX)))
 
     def test_a_changed_paper_never_shows_another_number(self):
-        for machine in MACHINES:
+        for machine in some_machines():
             for lot in lots(machine):
+                greatest = g_of(machine, lot[0])
                 told, closed = g_paper(machine, lot[0])
-                for at in range(len(closed)):
-                    paper = (told, closed[:at] + closed[at + 1:])
-                    with self.assertRaises(BadPaper):
-                        check_g(machine, lot[0], paper)
+                others = [(told, closed[:at] + closed[at + 1:]) for at in range(len(closed))]
+                others += [(told[:at] + ((told[at] + 1) % greatest,) + told[at + 1:], closed) for at in range(len(lot))]
+                for paper in others:
+                    try:
+                        self.assertEqual(check_g(machine, lot[0], paper), greatest)
+                    except BadPaper as refused:
+                        self.assertIn(refused.place, ("shifts", ("closed", 0)))
 
     def test_wheels_ahead_of_papers(self):
         for thing in odd_things() + [2, -1, (0,)]:

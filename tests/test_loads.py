@@ -11,8 +11,8 @@ from evenwheels.loads import (
 )
 from evenwheels.machines import spots
 from tests.support import (
-    CHAIN, HALF_ROUND, LONELY, MACHINES, ONE_CELL, ONE_CELL_TOUCHES, SEVERAL_LOTS, TWICE, TWO_WHEELS, WheelTest, deep,
-    holds_of, load_of, odd_things, plain_beat, plain_read, pair_of, random_load, some_machines, whole_load,
+    CHAIN, DEEP_TUPLE, HALF_ROUND, LONELY, MACHINES, ONE_CELL, ONE_CELL_TOUCHES, SEVERAL_LOTS, TWICE, TWO_WHEELS,
+    WheelTest, holds_of, load_of, odd_things, pair_of, plain_beat, plain_read, random_load, some_machines, whole_load,
 )
 
 NO_BEATS = [-1, 301, 10 ** 500, -10 ** 500, (1,), [1], "1", 2.0]
@@ -35,7 +35,7 @@ class Kinds(WheelTest):
         row, other = ((0, 1),) * 2, ((0, 1),) * 3
         others = [(), (row,), (row, other, other), [row, other], (row, list(other)), (list(row), other), (other, row),
                   (row, row), (row, other + row), (row, ()), (row, None), (None, other), row + other, (0, 1),
-                  {0: row, 1: other}, ((None,) * 2, (None,) * 4), deep(tuple), (row, "abc"), ("ab", other)]
+                  {0: row, 1: other}, ((None,) * 2, (None,) * 4), DEEP_TUPLE, (row, "abc"), ("ab", other)]
         for load in others + odd_things():
             self.refused(None, TWO_WHEELS, load)
 

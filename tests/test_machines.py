@@ -5,7 +5,7 @@ from evenwheels.machines import (
     MOST_CELLS, MOST_TOUCHES, MOST_WHEELS, cells, is_machine, machine_of, need_machine, need_spot, need_touch,
     need_wheel, spots,
 )
-from tests.support import HALF_ROUND, MACHINES, SEVERAL_LOTS, TWICE, WheelTest, deep, odd_things, some_machines
+from tests.support import DEEP_LIST, HALF_ROUND, MACHINES, SEVERAL_LOTS, TWICE, WheelTest, odd_things, some_machines
 
 A = (0, 0)
 B = (1, 0)
@@ -61,7 +61,7 @@ class Refused(WheelTest):
 
     def test_touches_as_a_whole(self):
         nine = tuple(((0, 2 * k), (0, 2 * k + 1)) for k in range(9))
-        others = [[], [(A, B)], nine, (None,) * 9, (None,) * 100000, {}, {(A, B): 1}, 0, "ab", deep(list)]
+        others = [[], [(A, B)], nine, (None,) * 9, (None,) * 100000, {}, {(A, B): 1}, 0, "ab", DEEP_LIST]
         for touches in others + [thing for thing in odd_things() if type(thing) is not tuple]:
             self.refused("touches", ((20, 1), touches))
 
@@ -164,7 +164,7 @@ class MachineOf(WheelTest):
 
 class Told(WheelTest):
     def test_cells(self):
-        self.assertEqual([cells(machine) for machine in MACHINES], [1, 5, 6, 7, 5, 10, 5, 23, 30, 30, 27])
+        self.assertEqual([cells(machine) for machine in MACHINES], [1, 5, 6, 7, 5, 10, 5, 23, 30, 30, 27, 16, 18])
 
     def test_spots(self):
         self.assertEqual(spots(((2, 1, 3), ())), ((0, 0), (0, 1), (1, 0), (2, 0), (2, 1), (2, 2)))

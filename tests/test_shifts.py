@@ -8,8 +8,8 @@ from evenwheels.machines import spots
 from evenwheels.shifts import are_shifts, g_of, miss, shifts
 from evenwheels.web import lot_of, lots, web
 from tests.support import (
-    CHAIN, HALF_ROUND, LONELY, MACHINES, ONE_CELL, SEVERAL_LOTS, TWICE, TWO_WHEELS, UNEVEN_ROUND, WheelTest, odd_things,
-    some_machines,
+    BACKWARD, CHAIN, HALF_ROUND, LONELY, MACHINES, ONE_CELL, SEVERAL_LOTS, TWICE, TWO_WHEELS, UNEVEN_ROUND, WINDING,
+    WheelTest, odd_things, some_machines,
 )
 
 NO_MODULO = [0, -1, -7, -10 ** 500, (1,), [1], "1", 1.0]
@@ -52,6 +52,11 @@ class Shifts(WheelTest):
         self.assertEqual(shifts(SEVERAL_LOTS, 4, 4), (0, 3))
         self.assertEqual(shifts(SEVERAL_LOTS, 4, 2), (0, 1))
         self.assertIsNone(shifts(SEVERAL_LOTS, 4, 8))
+
+    def test_told_by_a_later_wheel(self):
+        self.assertEqual(shifts(WINDING, 1, 4), (0, 1, 3))
+        self.assertEqual(shifts(WINDING, 0, 2), (0, 1, 1))
+        self.assertEqual(shifts(BACKWARD, 3, 3), (0, 1, 0, 2))
 
     def test_one_wheel(self):
         self.assertEqual(shifts(LONELY, 0, 5), (0,))
@@ -132,7 +137,7 @@ class AreShifts(WheelTest):
 
 class G(WheelTest):
     def test_by_hand(self):
-        self.assertEqual([g_of(machine, 0) for machine in MACHINES], [1, 5, 3, 1, 1, 2, 1, 3, 1, 2, 1])
+        self.assertEqual([g_of(machine, 0) for machine in MACHINES], [1, 5, 3, 1, 1, 2, 1, 3, 1, 2, 1, 4, 3])
         self.assertEqual([g_of(SEVERAL_LOTS, wheel) for wheel in range(5)], [3, 4, 3, 2, 4])
         self.assertEqual(g_of(((12, 18), (((0, 5), (1, 3)),)), 1), 6)
         self.assertEqual(g_of(((12, 12), (((0, 5), (1, 3)),)), 1), 12)

@@ -7,8 +7,9 @@ from evenwheels.loads import empty, readings
 from evenwheels.machines import spots
 from evenwheels.web import has_touch, lot_of, lots, way_from, ways_to, web, web_readings
 from tests.support import (
-    CHAIN, HALF_ROUND, LONELY, MACHINES, MOST_CELLS_ALONE, MOST_WHEELS_ALL, ONE_CELL, ONE_CELL_TOUCHES, SEVERAL_LOTS,
-    TWICE, TWO_WHEELS, UNEVEN_ROUND, WheelTest, odd_things, random_load, some_machines, whole_load,
+    BACKWARD, CHAIN, HALF_ROUND, LONELY, MACHINES, MOST_CELLS_ALONE, MOST_WHEELS_ALL, ONE_CELL, ONE_CELL_TOUCHES,
+    SEVERAL_LOTS, TWICE, TWO_WHEELS, UNEVEN_ROUND, WINDING, WheelTest, odd_things, random_load, some_machines,
+    whole_load,
 )
 
 
@@ -20,6 +21,8 @@ class Lots(WheelTest):
         self.assertEqual(lots(((2, 2, 2), ())), ((0,), (1,), (2,)))
         self.assertEqual(lots(SEVERAL_LOTS), ((0, 2), (1, 4), (3,)))
         self.assertEqual(lots(CHAIN), ((0, 1, 2),))
+        self.assertEqual(lots(WINDING), ((0, 1, 2),))
+        self.assertEqual(lots(BACKWARD), ((0, 1, 2, 3),))
         self.assertEqual(lots(MOST_WHEELS_ALL), ((0, 1, 2, 3, 4, 5, 6, 7, 15),) + tuple((k,) for k in range(8, 15)))
 
     def test_a_long_chain_told_from_its_far_end(self):
