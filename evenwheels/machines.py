@@ -33,6 +33,18 @@ def is_pair_of(counts, thing):
     return is_tuple_of(thing, 2) and is_spot_of(counts, thing[0]) and is_spot_of(counts, thing[1])
 
 
+def are_numbers_below(many, thing):
+    """Whether anything is a rising tuple of whole numbers from 0 on, below many."""
+    if type(thing) != tuple:
+        return False
+    for at, number in enumerate(thing):
+        if not is_whole(number) or not 0 <= number < many:
+            return False
+        if at > 0 and number <= thing[at - 1]:
+            return False
+    return True
+
+
 def need_touches(counts, touches):
     """None, or BadMachine of the first of at most eight things that is no TOUCH here."""
     taken = {}

@@ -68,8 +68,23 @@ def ways_by_spot(machine):
     ways = {}
     for spot in touch_at:
         gap = _gap_from(machine, touch_at, spot)
-        ways[spot] = (touch_at[spot], spot, touch_at[_rolled(machine, spot, gap)], gap)
+        ways[spot] = (touch_at[spot], spot, touch_at[rolled(machine, spot, gap)], gap)
     return ways
+
+
+def rolled(machine, spot, beats):
+    """The SPOT to which what stands at one only rolls in so many beats; below 0, so many back."""
+    wheel, place = spot
+    return (wheel, (place - beats) % machine[0][wheel])
+
+
+def across_touches(machine):
+    """A dict of the other SPOT of the same TOUCH, of each SPOT of one, of what is known to be a MACHINE."""
+    found = {}
+    for one, other in machine[1]:
+        found[one] = other
+        found[other] = one
+    return found
 
 
 def _lot_from(machine, wheel):
@@ -83,14 +98,9 @@ def _lot_from(machine, wheel):
     return tuple(sorted(known))
 
 
-def _rolled(machine, spot, beats):
-    wheel, place = spot
-    return (wheel, (place - beats) % machine[0][wheel])
-
-
 def _gap_from(machine, touch_at, spot):
     gap = 1
-    while _rolled(machine, spot, gap) not in touch_at:
+    while rolled(machine, spot, gap) not in touch_at:
         gap += 1
     return gap
 

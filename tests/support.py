@@ -4,7 +4,8 @@ import random
 import unittest
 from fractions import Fraction
 
-from evenwheels.machines import machine_of
+from evenwheels.loads import one_at, readings
+from evenwheels.machines import machine_of, spots
 
 
 class Same:
@@ -60,10 +61,20 @@ CHAIN = ((6, 9, 12), (((0, 0), (1, 1)), ((0, 3), (2, 5)), ((1, 4), (2, 0)), ((1,
 WINDING = ((4, 4, 8), (((0, 1), (2, 2)), ((1, 3), (2, 5))))
 BACKWARD = ((6, 3, 6, 3), (((0, 1), (3, 2)), ((1, 2), (2, 0)), ((2, 2), (3, 0))))
 
+# Eight touches between wheels of unlike counts; two wheels that meet again as at first only behind 221 beats.
+EIGHT = ((3, 5, 7, 15), (((0, 0), (1, 2)), ((0, 1), (3, 4)), ((1, 0), (2, 3)), ((1, 4), (3, 14)), ((2, 0), (2, 5)),
+                         ((2, 6), (3, 1)), ((3, 2), (3, 9)), ((3, 6), (3, 12))))
+LATEST = ((13, 17), (((0, 4), (1, 11)),))
+# At beat 1 both touches read the mean of all.
+NEIGHBOURS = ((4,), (((0, 0), (0, 1)), ((0, 2), (0, 3))))
+
 MACHINES = [
     ONE_CELL, LONELY, HALF_ROUND, UNEVEN_ROUND, TWO_WHEELS, TWICE, ONE_CELL_TOUCHES, SEVERAL_LOTS,
     MOST_WHEELS_ALL, MOST_CELLS_ALONE, CHAIN, WINDING, BACKWARD,
 ]
+
+
+GREAT = [MOST_CELLS_ALONE, MOST_WHEELS_ALL, CHAIN, EIGHT, LATEST]
 
 
 def random_machine(chance):
@@ -131,6 +142,69 @@ def plain_beat(machine, holds):
     for (one, other), reading in zip(machine[1], plain_read(machine, holds)):
         shared[one] = shared[other] = reading
     return {(w, (p - 1) % machine[0][w]): worth for (w, p), worth in shared.items()}
+
+
+def plain_classes(machine):
+    """All classes, each a set of spots: what meets at any beat, if all only rolls, is of one."""
+    found = {(w, p): {(w, p)} for w, count in enumerate(machine[0]) for p in range(count)}
+    for beats in range(221):
+        for (w, p), (v, q) in machine[1]:
+            one, other = (w, (p + beats) % machine[0][w]), (v, (q + beats) % machine[0][v])
+            if found[one] is not found[other]:
+                both = found[one] | found[other]
+                for spot in both:
+                    found[spot] = both
+    return [members for spot, members in sorted(found.items()) if spot == min(members)]
+
+
+def plain_echelon(rows):
+    """A plain elimination by fractions: for each row whether it is no sum of those ahead, and what is left of all."""
+    kept, new = [], []
+    for row in rows:
+        for place, ahead in kept:
+            by = row[place]
+            if by:
+                row = [worth - by * beside if beside else worth for worth, beside in zip(row, ahead)]
+        place = next((at for at, worth in enumerate(row) if worth), None)
+        new.append(place is not None)
+        if place is not None:
+            kept.append((place, [worth / row[place] for worth in row]))
+    return new, kept
+
+
+def plain_rank(rows):
+    return sum(plain_echelon(rows)[0])
+
+
+def plain_silent(rows, many):
+    """Rows of so many that, paired with all of these, make nought: as many as there are unlike ones."""
+    _, kept = plain_echelon(rows)
+    found = []
+    for free in sorted(set(range(many)) - {place for place, _ in kept}):
+        told = [Fraction(int(at == free)) for at in range(many)]
+        for place, row in reversed(kept):
+            told[place] -= sum(worth * more for worth, more in zip(row, told))
+        found.append(told)
+    return found
+
+
+def plain_rows(machine, window, beats):
+    """What one at each spot makes be read, look by look."""
+    told = [readings(machine, one_at(machine, spot), beats) for spot in spots(machine)]
+    return [[Fraction(*each[at][touch]) for each in told] for at in range(beats) for touch in window]
+
+
+def some_window(machine, chance):
+    many = len(machine[1])
+    return tuple(sorted(chance.sample(range(many), chance.randint(1, many))))
+
+
+def flat_of(load):
+    return [Fraction(*worth) for row in load for worth in row]
+
+
+def fraction_rows(rows):
+    return tuple(tuple(pair_of(Fraction(worth)) for worth in row) for row in rows)
 
 
 class WheelTest(unittest.TestCase):
