@@ -2,10 +2,10 @@
 
 from evenwheels.errors import BadPaper, BadReadings, Never
 from evenwheels.fractions import is_fraction, is_nought, is_tuple_of, less, times, total
-from evenwheels.loads import added, empty, scaled
+from evenwheels.loads import empty, summed
 from evenwheels.machines import MOST_CELLS
 from evenwheels.spans import times_to_make, times_to_pair
-from evenwheels.windows import flat, looks, need_window, new_looks, window_rows
+from evenwheels.windows import flat, looks, need_window, new_looks, weights_at, window_rows
 
 
 def need_seen(machine, window, seen):
@@ -41,17 +41,23 @@ def first_clash(machine, window, seen):
 def check_clash(machine, window, seen, paper):
     """None, or BadPaper of what is no CLASH, of anything."""
     need_seen(machine, window, seen)
-    if not is_tuple_of(paper, len(seen)):
+    if not is_tuple_of(paper, len(seen)) or not are_weights(window, paper):
         raise BadPaper(None)
-    for weights in paper:
-        if not are_fractions(weights, len(window)):
-            raise BadPaper(None)
-    rows = window_rows(machine, window, len(seen))
-    all_rows = [row for looked in rows for row in looked]
-    if _summed(machine, all_rows, flat(paper)) != empty(machine):
+    if made_of_rows(machine, window, paper) != empty(machine):
         raise BadPaper("rows")
     if is_nought(total([times(by, reading) for by, reading in zip(flat(paper), flat(seen))])):
         raise BadPaper("seen")
+
+
+def are_weights(window, thing):
+    """Whether anything is WEIGHTS for some beats of what is known to be a WINDOW."""
+    return type(thing) == tuple and all([are_fractions(weights, len(window)) for weights in thing])
+
+
+def made_of_rows(machine, window, weights):
+    """The LOAD that all ROWS make by what are known to be WEIGHTS."""
+    rows = window_rows(machine, window, len(weights))
+    return summed(machine, [row for looked in rows for row in looked], flat(weights))
 
 
 def are_fractions(thing, many):
@@ -65,22 +71,12 @@ def _least_of_new(machine, window, seen):
     marks = new_looks(rows)
     ahead = [rows[at][place] for at, place in marks]
     many = times_to_pair([flat(row) for row in ahead], [seen[at][place] for at, place in marks])
-    return _summed(machine, ahead, many)
+    return summed(machine, ahead, many)
 
 
 def _clash_at(machine, window, beats, mark):
     rows = window_rows(machine, window, beats)
     marks = new_looks(rows)
     many = times_to_make([flat(rows[at][place]) for at, place in marks], flat(rows[mark[0]][mark[1]]))
-    weights = [[(0, 1)] * len(window) for _ in range(beats)]
-    for (at, place), by in zip(marks, many):
-        weights[at][place] = less((0, 1), by)
-    weights[mark[0]][mark[1]] = (1, 1)
-    return tuple([tuple(row) for row in weights])
-
-
-def _summed(machine, rows, many):
-    so_far = empty(machine)
-    for row, by in zip(rows, many):
-        so_far = added(machine, so_far, scaled(machine, row, by))
-    return so_far
+    against = [less((0, 1), by) for by in many]
+    return weights_at(marks + [mark], against + [(1, 1)], beats, len(window))

@@ -1,5 +1,7 @@
 """MACHINES: wheels of told COUNTS of places, and the TOUCHES between their SPOTS."""
 
+from itertools import combinations
+
 from evenwheels.errors import BadMachine, BadSpot, NoTouch, OutOfPlace
 from evenwheels.fractions import is_tuple_of, is_whole
 
@@ -109,7 +111,12 @@ def spots(machine):
 def need_spot(machine, thing):
     """None, or BadSpot(None) of what is no SPOT of the MACHINE; of anything."""
     need_machine(machine)
-    if not is_spot_of(machine[0], thing):
+    need_spot_on(machine[0], thing)
+
+
+def need_spot_on(counts, thing):
+    """None, or BadSpot(None) of what is no SPOT on wheels of what are known to be COUNTS; of anything."""
+    if not is_spot_of(counts, thing):
         raise BadSpot(None)
 
 
@@ -123,5 +130,15 @@ def need_wheel(machine, thing):
 def need_touch(machine, thing):
     """None, or NoTouch of what is no number of a TOUCH; of anything."""
     need_machine(machine)
-    if not is_whole(thing) or not 0 <= thing < len(machine[1]):
+    need_touch_in(machine[1], thing)
+
+
+def need_touch_in(touches, thing):
+    """None, or NoTouch of what is no number of one of what are known to be TOUCHES; of anything."""
+    if not is_whole(thing) or not 0 <= thing < len(touches):
         raise NoTouch("no number of a touch")
+
+
+def all_numbers_below(many):
+    """A list of all rising tuples of whole numbers from 0 on, below many: fewer numbers ahead, then lesser ones."""
+    return [numbers for size in range(many + 1) for numbers in combinations(range(many), size)]

@@ -20,7 +20,7 @@ def mirror_touch(machine, touch):
 def turned(machine, load):
     """The LOAD that has at (W, P) what this has at (W, -P)."""
     need_load(machine, load)
-    return tuple([row[:1] + row[:0:-1] for row in load])
+    return turned_about(load)
 
 
 def paired(machine, load, other):
@@ -29,6 +29,11 @@ def paired(machine, load, other):
     need_load(machine, other)
     worths = [times(worth, beside) for row, across in zip(load, other) for worth, beside in zip(row, across)]
     return total(worths)
+
+
+def turned_about(load):
+    """TURNED, of what is known to be a LOAD."""
+    return tuple([row[:1] + row[:0:-1] for row in load])
 
 
 def _mirrored(machine, pair):

@@ -4,8 +4,8 @@ from math import gcd
 
 from evenwheels.errors import OutOfPlace
 from evenwheels.fractions import is_tuple_of, is_whole
-from evenwheels.machines import need_spot, need_wheel
-from evenwheels.web import lot_of
+from evenwheels.machines import need_machine, need_spot_on, need_wheel
+from evenwheels.web import chain_from, chains, lot_of
 
 
 def need_modulo(thing):
@@ -18,11 +18,10 @@ def shifts(machine, wheel, modulo):
     """SHIFTS of a wheel's LOT, a tuple, or None without."""
     need_wheel(machine, wheel)
     need_modulo(modulo)
-    if g_of(machine, wheel) % modulo != 0:
+    chain = chain_from(machine, wheel)
+    if _greatest(machine, chain) % modulo != 0:
         return None
-    lot = lot_of(machine, wheel)
-    chained = _chained(machine, lot)
-    return tuple([chained[member] % modulo for member in lot])
+    return _shifts_by(chain, modulo)
 
 
 def are_shifts(machine, wheel, modulo, thing):
@@ -42,36 +41,50 @@ def are_shifts(machine, wheel, modulo, thing):
 def g_of(machine, wheel):
     """G of a wheel's LOT: the greatest number modulo which it has SHIFTS."""
     need_wheel(machine, wheel)
-    lot = lot_of(machine, wheel)
-    greatest = 0
-    for member in lot:
-        greatest = gcd(greatest, machine[0][member])
-    for left in _left_at_touches(machine, _chained(machine, lot)):
-        greatest = gcd(greatest, left)
-    return greatest
+    return _greatest(machine, chain_from(machine, wheel))
+
+
+def greatest_shifts(machine, wheel):
+    """G of a wheel's LOT, and its SHIFTS modulo G, of what are known to be a MACHINE and a number of a wheel."""
+    chain = chain_from(machine, wheel)
+    greatest = _greatest(machine, chain)
+    return (greatest, _shifts_by(chain, greatest))
 
 
 def miss(machine, spot, other):
     """The MISS of two SPOTS of one LOT."""
-    need_spot(machine, spot)
-    need_spot(machine, other)
-    lot = lot_of(machine, spot[0])
-    if other[0] not in lot:
+    need_machine(machine)
+    need_spot_on(machine[0], spot)
+    need_spot_on(machine[0], other)
+    chain = chain_from(machine, spot[0])
+    if other[0] not in chain:
         raise OutOfPlace("spots of two lots")
-    chained = _chained(machine, lot)
-    return (chained[spot[0]] + spot[1] - chained[other[0]] - other[1]) % g_of(machine, spot[0])
+    return (spot[1] - chain[other[0]] - other[1]) % _greatest(machine, chain)
 
 
-def _chained(machine, lot):
-    # Along a chain of TOUCHES from the first wheel, before anything is taken modulo a number.
-    told = {lot[0]: 0}
-    for _ in lot:
-        for one, other in machine[1]:
-            if one[0] in told and other[0] not in told:
-                told[other[0]] = told[one[0]] + one[1] - other[1]
-            elif other[0] in told and one[0] not in told:
-                told[one[0]] = told[other[0]] + other[1] - one[1]
+def wheels_told(machine):
+    """For each wheel the number of its LOT, its SHIFT modulo G, and G, in a list, of what is known to be a MACHINE."""
+    told = [None] * len(machine[0])
+    for number, chain in enumerate(chains(machine)):
+        greatest = _greatest(machine, chain)
+        for wheel, turn in chain.items():
+            told[wheel] = (number, turn % greatest, greatest)
     return told
+
+
+def _greatest(machine, chain):
+    greatest = 0
+    for wheel in chain:
+        greatest = gcd(greatest, machine[0][wheel])
+    for left in _left_at_touches(machine, chain):
+        greatest = gcd(greatest, left)
+    return greatest
+
+
+def _shifts_by(chain, modulo):
+    # The chain may be told from any wheel of the LOT; the first one's SHIFT is 0.
+    lot = sorted(chain)
+    return tuple([(chain[member] - chain[lot[0]]) % modulo for member in lot])
 
 
 def _left_at_touches(machine, told):

@@ -2,7 +2,7 @@
 
 from math import gcd, lcm
 
-from evenwheels.fractions import fraction
+from evenwheels.fractions import fraction, is_nought, less, over, times, total
 
 
 def whole_rows(rows):
@@ -41,6 +41,27 @@ def times_to_make(rows, told):
     ahead = whole[:-1]
     found = _solved(_all_paired(ahead), [_paired(row, whole[-1]) for row in ahead])
     return [fraction(top, below) for top, below in found]
+
+
+def unseen(rows, width):
+    """Rows that, PAIRED with each of these, make nought: each has 1 first, all others noughts there, rising."""
+    kept = []
+    # From the last place on, so that what is left free stands ahead of all that it tells.
+    for row in whole_rows(rows)[0]:
+        keep_new(kept, row[::-1])
+    taken = [place for place, _ in kept]
+    free = [place for place in range(width) if place not in taken]
+    return [_told_by_free(kept, width, place)[::-1] for place in reversed(free)]
+
+
+def _told_by_free(kept, width, free):
+    # One at the free place, noughts at the others; each kept row tells its own place by those told before it.
+    found = [(0, 1)] * width
+    found[free] = (1, 1)
+    for place, row in reversed(kept):
+        told = total([times((worth, 1), by) for worth, by in zip(row, found) if worth != 0 and not is_nought(by)])
+        found[place] = over(less((0, 1), told), (row[place], 1))
+    return found
 
 
 def _all_paired(rows):

@@ -9,18 +9,13 @@ from evenwheels.machines import need_machine, need_spot, need_touch, need_wheel
 def lots(machine):
     """A tuple of all LOTS, rising tuples of wheels, by their first wheels."""
     need_machine(machine)
-    found = []
-    for wheel in range(len(machine[0])):
-        lot = _lot_from(machine, wheel)
-        if lot[0] == wheel:
-            found.append(lot)
-    return tuple(found)
+    return tuple([tuple(sorted(chain)) for chain in chains(machine)])
 
 
 def lot_of(machine, wheel):
     """The LOT that has a wheel."""
     need_wheel(machine, wheel)
-    return _lot_from(machine, wheel)
+    return tuple(sorted(chain_from(machine, wheel)))
 
 
 def has_touch(machine, lot):
@@ -87,15 +82,46 @@ def across_touches(machine):
     return found
 
 
-def _lot_from(machine, wheel):
-    known = {wheel: True}
-    # So many rounds are enough: each one finds a wheel at the least, until all are found.
-    for _ in machine[0]:
-        for one, other in machine[1]:
-            if one[0] in known or other[0] in known:
-                known[one[0]] = True
-                known[other[0]] = True
-    return tuple(sorted(known))
+def chains(machine):
+    """For each LOT, in order, what chain_from tells of its first wheel, of what is known to be a MACHINE."""
+    beside = _turns_beside(machine)
+    known = {}
+    found = []
+    for wheel in beside:
+        if wheel not in known:
+            chain = _chained(beside, wheel)
+            for member in chain:
+                known[member] = True
+            found.append(chain)
+    return found
+
+
+def chain_from(machine, wheel):
+    """A dict of how far each wheel of a LOT is turned, by a chain of TOUCHES from the told one, of a known MACHINE."""
+    return _chained(_turns_beside(machine), wheel)
+
+
+def _turns_beside(machine):
+    # For each wheel, those that it touches, and how much further they are turned by that TOUCH.
+    beside = {wheel: [] for wheel in range(len(machine[0]))}
+    for (wheel, place), (across, other) in machine[1]:
+        beside[wheel].append((across, place - other))
+        beside[across].append((wheel, other - place))
+    return beside
+
+
+def _chained(beside, wheel):
+    chain = {wheel: 0}
+    latest = [wheel]
+    while len(latest) > 0:
+        found = []
+        for here in latest:
+            for there, further in beside[here]:
+                if there not in chain:
+                    chain[there] = chain[here] + further
+                    found.append(there)
+        latest = found
+    return chain
 
 
 def _gap_from(machine, touch_at, spot):

@@ -2,9 +2,9 @@
 
 from evenwheels.errors import NoTouch, OutOfPlace
 from evenwheels.fractions import is_whole
-from evenwheels.loads import added, behind, need_beats, need_load, one_at, readings, scaled
+from evenwheels.loads import halves_on, need_beats, need_load, next_load, readings
 from evenwheels.machines import MOST_CELLS, are_numbers_below, cells, need_machine, need_touch
-from evenwheels.mirror import mirror, turned
+from evenwheels.mirror import mirror, turned_about
 from evenwheels.spans import keep_new, times_to_make, whole_rows
 
 
@@ -19,7 +19,11 @@ def row_of(machine, touch, beat):
     """The ROW of a TOUCH at a beat."""
     need_touch(machine, touch)
     need_beats(beat)
-    return turned(machine, behind(mirror(machine), _halves_turned(machine, touch), beat))
+    across = mirror(machine)
+    now = turned_about(halves_on(machine, touch))
+    for _ in range(beat):
+        now = next_load(across, now)
+    return turned_about(now)
 
 
 def looks(machine, window, load, beats):
@@ -48,7 +52,7 @@ def shortest(machine, touch):
     """The SHORTEST of a TOUCH: by it each READING is told by those ahead."""
     need_touch(machine, touch)
     # So many ROWS and one more can't be all no sums of those ahead.
-    rows = [flat(row) for row in _rows_from(machine, touch, cells(machine) + 1)]
+    rows = [flat(row) for row in _rows_from(machine, mirror(machine), touch, cells(machine) + 1)]
     kept = []
     many = 0
     while keep_new(kept, whole_rows([rows[many]])[0][0]):
@@ -69,7 +73,8 @@ def flat(load):
 
 def window_rows(machine, window, beats):
     """For each beat a list of the ROWS of its LOOKS, LOADS, of what is known to be a WINDOW."""
-    by_touch = [_rows_from(machine, touch, beats) for touch in window]
+    across = mirror(machine)
+    by_touch = [_rows_from(machine, across, touch, beats) for touch in window]
     return [[rows[at] for rows in by_touch] for at in range(beats)]
 
 
@@ -89,18 +94,19 @@ def new_looks(rows):
     return found
 
 
-def _halves_turned(machine, touch):
-    one, other = machine[1][touch]
-    both = added(machine, one_at(machine, one), one_at(machine, other))
-    return turned(machine, scaled(machine, both, (1, 2)))
+def weights_at(marks, many, beats, width):
+    """WEIGHTS, or GIFTS: what is told at each mark, a pair of beat and place in the WINDOW, noughts else."""
+    told = [[(0, 1)] * width for _ in range(beats)]
+    for (at, place), by in zip(marks, many):
+        told[at][place] = by
+    return tuple([tuple(row) for row in told])
 
 
-def _rows_from(machine, touch, beats):
-    # All ROWS of a TOUCH at beats 0 to beats - 1.
-    across = mirror(machine)
-    now = _halves_turned(machine, touch)
+def _rows_from(machine, across, touch, beats):
+    # All ROWS of a TOUCH at beats 0 to beats - 1, by MIRROR.
+    now = turned_about(halves_on(machine, touch))
     found = []
     for _ in range(beats):
-        found.append(turned(machine, now))
-        now = behind(across, now, 1)
+        found.append(turned_about(now))
+        now = next_load(across, now)
     return found

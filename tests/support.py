@@ -172,6 +172,14 @@ def plain_echelon(rows):
     return new, kept
 
 
+def plain_is_sum(kept, row):
+    """Whether a row is a sum of what plain_echelon kept."""
+    for place, ahead in kept:
+        if row[place]:
+            row = [worth - row[place] * beside for worth, beside in zip(row, ahead)]
+    return not any(row)
+
+
 def plain_rank(rows):
     return sum(plain_echelon(rows)[0])
 

@@ -2,8 +2,8 @@
 
 from evenwheels.errors import BadMachine, BadSpot, NoTouch, OutOfPlace
 from evenwheels.machines import (
-    MOST_CELLS, MOST_TOUCHES, MOST_WHEELS, cells, is_machine, machine_of, need_machine, need_spot, need_touch,
-    need_wheel, spots,
+    MOST_CELLS, MOST_TOUCHES, MOST_WHEELS, all_numbers_below, cells, is_machine, machine_of, need_machine, need_spot,
+    need_touch, need_wheel, spots,
 )
 from tests.support import DEEP_LIST, HALF_ROUND, MACHINES, SEVERAL_LOTS, TWICE, WheelTest, odd_things, some_machines
 
@@ -202,3 +202,11 @@ class Needs(WheelTest):
             self.assert_text(NoTouch, need_touch, SEVERAL_LOTS, thing)
         self.assert_text(NoTouch, need_touch, ((3,), ()), 0)
         self.assertIsNone(need_touch(HALF_ROUND, 0))
+
+    def test_all_numbers_below(self):
+        self.assertEqual(all_numbers_below(0), [()])
+        self.assertEqual(all_numbers_below(1), [(), (0,)])
+        self.assertEqual(all_numbers_below(3), [(), (0,), (1,), (2,), (0, 1), (0, 2), (1, 2), (0, 1, 2)])
+        told = all_numbers_below(8)
+        self.assertEqual(len(told), 256)
+        self.assertEqual(told, sorted(told, key=lambda numbers: (len(numbers), numbers)))

@@ -4,7 +4,7 @@ import random
 import unittest
 from fractions import Fraction
 
-from evenwheels.spans import keep_new, times_to_make, times_to_pair, whole_rows
+from evenwheels.spans import keep_new, times_to_make, times_to_pair, unseen, whole_rows
 from tests.support import pair_of, plain_echelon
 
 
@@ -57,3 +57,19 @@ class Spans(unittest.TestCase):
         rows = [[(1, 2), (1, 2), (0, 1)], [(0, 1), (1, 3), (0, 1)]]
         self.assertEqual(times_to_make(rows, [(1, 1), (0, 1), (0, 1)]), [(2, 1), (-3, 1)])
         self.assertEqual(times_to_pair(rows, [(1, 2), (0, 1)]), [(2, 1), (-3, 1)])
+
+    def test_unseen(self):
+        self.assertEqual(unseen([], 2), [[(1, 1), (0, 1)], [(0, 1), (1, 1)]])
+        self.assertEqual(unseen([[(0, 1), (0, 1)], [(1, 2), (1, 3)]], 2), [[(1, 1), (-3, 2)]])
+        self.assertEqual(unseen([[(1, 1), (0, 1)], [(1, 1), (1, 1)]], 2), [])
+        chance = random.Random(142)
+        for _ in range(60):
+            width = chance.randint(1, 7)
+            rows = random_rows(chance, chance.randint(1, 6), width)
+            told = [[Fraction(*worth) for worth in row] for row in unseen([pairs(row) for row in rows], width)]
+            self.assertEqual(len(told), width - sum(plain_echelon(rows)[0]))
+            self.assertTrue(all(paired(one, row) == 0 for one in told for row in rows))
+            firsts = [next(at for at, worth in enumerate(one) if worth) for one in told]
+            self.assertEqual(firsts, sorted(firsts))
+            self.assertEqual([[one[first] for first in firsts] for one in told],
+                             [[int(first == mine) for first in firsts] for mine in firsts])
