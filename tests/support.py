@@ -207,6 +207,12 @@ def some_window(machine, chance):
     return tuple(sorted(chance.sample(range(many), chance.randint(1, many))))
 
 
+def some_names(machine, chance):
+    numbers = list(range(len(machine[0])))
+    chance.shuffle(numbers)
+    return tuple((number, chance.randrange(count)) for number, count in zip(numbers, machine[0]))
+
+
 def flat_of(load):
     return [Fraction(*worth) for row in load for worth in row]
 

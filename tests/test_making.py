@@ -96,8 +96,8 @@ class Made(WheelTest):
         for thing in [(), (one,) * 31, [one], "ab", {0: one}, DEEP_LIST] + [
                 thing for thing in odd_things() if type(thing) is not tuple]:
             self.assert_refused(BadReadings, {"number": None}, made, TWICE, (0, 1), thing)
-        for thing in [(), one[:1], one + one[:1], list(one), None, ((0, 1), (2, 4)), ((0, 1), None), ((True, 1), (0, 1)),
-                      DEEP_TUPLE, within_itself(), Same()] + odd_things():
+        for thing in [(), one[:1], one + one[:1], list(one), None, ((0, 1), (2, 4)), ((0, 1), None),
+                      ((True, 1), (0, 1)), DEEP_TUPLE, within_itself(), Same()] + odd_things():
             self.assert_refused(BadReadings, {"number": 0}, made, TWICE, (0, 1), (thing, None))
             self.assert_refused(BadReadings, {"number": 2}, made, TWICE, (0, 1), (one, one, thing))
         for window in [(), (0, 0), (1, 0), (2,), (True,), [0]] + odd_things():
