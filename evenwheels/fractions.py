@@ -1,6 +1,6 @@
 """FRACTIONS: pairs (TOP, BOTTOM) of whole numbers in lowest terms, BOTTOM above 0."""
 
-from math import gcd
+from math import gcd, lcm
 
 from evenwheels.errors import OutOfPlace
 
@@ -80,7 +80,7 @@ def is_nought(one):
 
 def total(things):
     """The sum of any number of FRACTIONS in a list or tuple."""
-    so_far = (0, 1)
-    for thing in things:
-        so_far = plus(so_far, thing)
-    return so_far
+    bottom = 1
+    for _, under in things:
+        bottom = lcm(bottom, under)
+    return lowest(sum([top * (bottom // under) for top, under in things]), bottom)

@@ -1,8 +1,8 @@
 """TOUCHES that could be spared: BRIDGES, NEEDLESS ones, LEAN MACHINES, and the CORE."""
 
 from evenwheels.machines import all_numbers_below, need_machine, need_touch
-from evenwheels.more import are_idle, without_touch
-from evenwheels.shifts import wheels_told
+from evenwheels.more import without_touch
+from evenwheels.shifts import are_of_one_class, wheels_told
 
 
 def is_bridge(machine, touch):
@@ -60,7 +60,7 @@ def _parts(machine, touch):
 
 def _is_needless(machine, touch):
     one, other = machine[1][touch]
-    return are_idle(wheels_told(without_touch(machine, touch)), one, other)
+    return are_of_one_class(wheels_told(without_touch(machine, touch)), one, other)
 
 
 def _last_needless(machine):

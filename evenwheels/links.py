@@ -1,49 +1,37 @@
 """LINKS from SPOT to SPOT of one CLASS, and CLASS PAPERS that show of two SPOTS whether they are of one."""
 
-from evenwheels.classes import class_of
+from math import lcm
+
 from evenwheels.errors import BadPaper, OutOfPlace
 from evenwheels.fractions import is_tuple_of, is_whole
 from evenwheels.loads import need_beats
-from evenwheels.machines import are_numbers_below, is_spot_of, need_spot
-from evenwheels.shifts import are_shifts, g_of, shifts
-from evenwheels.web import across_touches, lot_of, rolled
-
-# The most that two COUNTS of at most 30 cells together take to meet again as at first: 13 times 17.
-_ALL_REPEATS = 221
+from evenwheels.machines import are_numbers_below, is_spot_of, need_machine, need_spot, need_spot_on
+from evenwheels.shifts import are_of_one_class, fit_as_shifts, wheels_told
+from evenwheels.web import across_touches, chain_from, rolled
 
 
 def linked(machine, spot, link):
     """Where a LINK from a SPOT leads; OutOfPlace of what is none, of anything."""
     need_spot(machine, spot)
-    if not is_tuple_of(link, 2):
-        raise OutOfPlace("a link is a pair")
-    at, beats = link
-    across = across_touches(machine)
-    if not is_spot_of(machine[0], at) or at not in across:
-        raise OutOfPlace("no spot of a touch")
-    need_beats(beats)
-    if rolled(machine, spot, beats) != at:
-        raise OutOfPlace("not where that would stand then")
-    return rolled(machine, across[at], -beats)
+    return _linked(machine, across_touches(machine), spot, link)
 
 
 def class_paper(machine, spot, other):
     """A CLASS PAPER of two SPOTS; of one CLASS by as few LINKS as can be."""
-    need_spot(machine, spot)
-    need_spot(machine, other)
-    if class_of(machine, spot) == class_of(machine, other):
+    _need_spots(machine, spot, other)
+    told = wheels_told(machine)
+    if are_of_one_class(told, spot, other):
         return ("one", _links_between(machine, spot, other))
-    lot = lot_of(machine, spot[0])
-    if other[0] not in lot:
-        return ("lots", lot)
-    greatest = g_of(machine, spot[0])
-    return ("shifts", greatest, shifts(machine, spot[0], greatest))
+    lot, _, greatest = told[spot[0]]
+    members = [wheel for wheel, (number, _, _) in enumerate(told) if number == lot]
+    if other[0] not in members:
+        return ("lots", tuple(members))
+    return ("shifts", greatest, tuple([told[wheel][1] for wheel in members]))
 
 
 def check_class(machine, spot, other, paper):
     """True where a CLASS PAPER shows that both are of one CLASS, False where of two; BadPaper of what is none."""
-    need_spot(machine, spot)
-    need_spot(machine, other)
+    _need_spots(machine, spot, other)
     word = _word_of(paper)
     if word == "one":
         _check_links(machine, spot, other, paper[1])
@@ -54,26 +42,60 @@ def check_class(machine, spot, other, paper):
     return word == "one"
 
 
+def _need_spots(machine, spot, other):
+    need_machine(machine)
+    need_spot_on(machine[0], spot)
+    need_spot_on(machine[0], other)
+
+
+def _linked(machine, across, spot, link):
+    if not is_tuple_of(link, 2):
+        raise OutOfPlace("a link is a pair")
+    at, beats = link
+    if not is_spot_of(machine[0], at) or at not in across:
+        raise OutOfPlace("no spot of a touch")
+    need_beats(beats)
+    if rolled(machine, spot, beats) != at:
+        raise OutOfPlace("not where that would stand then")
+    return rolled(machine, across[at], -beats)
+
+
 def _links_between(machine, spot, other):
-    across = across_touches(machine)
+    touching = _touching(machine)
     chains = {spot: ()}
     latest = [spot]
-    # So many rounds are enough: each one finds a SPOT at the least, until all of the CLASS are found.
+    # So many rounds are enough: each one finds a SPOT at the least, until the other one is found.
     for _ in range(sum(machine[0])):
         found = []
         for here in latest:
-            for link in _links_from(machine, across, here):
-                there = rolled(machine, across[link[0]], -link[1])
+            for beats, at, there in _links_from(machine, touching, here):
                 if there not in chains:
-                    chains[there] = chains[here] + (link,)
+                    chains[there] = chains[here] + ((at, beats),)
                     found.append(there)
+        if other in chains:
+            break
         latest = found
     return chains[other]
 
 
-def _links_from(machine, across, spot):
-    stands = [(rolled(machine, spot, beats), beats) for beats in range(_ALL_REPEATS)]
-    return [link for link in stands if link[0] in across]
+def _touching(machine):
+    # For each wheel its SPOTS of TOUCHES, the other ones of these, and the beats behind which all repeats there.
+    counts = machine[0]
+    found = [[] for _ in counts]
+    for spot, other in across_touches(machine).items():
+        found[spot[0]].append((spot, other, lcm(counts[spot[0]], counts[other[0]])))
+    return found
+
+
+def _links_from(machine, touching, here):
+    # Beat, SPOT and where that LINK leads, by their beats; later ones lead nowhere else.
+    wheel, place = here
+    count = machine[0][wheel]
+    found = []
+    for at, (across, beside), repeats in touching[wheel]:
+        for beats in range((place - at[1]) % count, repeats, count):
+            found.append((beats, at, (across, (beside + beats) % machine[0][across])))
+    return sorted(found)
 
 
 def _word_of(paper):
@@ -89,10 +111,11 @@ def _word_of(paper):
 
 
 def _check_links(machine, spot, other, links):
+    across = across_touches(machine)
     here = spot
     for number, link in enumerate(links):
         try:
-            here = linked(machine, here, link)
+            here = _linked(machine, across, here, link)
         except OutOfPlace:
             raise BadPaper(("link", number)) from None
     if here != other:
@@ -113,8 +136,8 @@ def _check_shifts(machine, spot, other, paper):
     _, modulo, told = paper
     if not is_whole(modulo) or modulo < 1:
         raise BadPaper("modulo")
-    lot = lot_of(machine, spot[0])
-    if other[0] not in lot or not are_shifts(machine, spot[0], modulo, told):
+    lot = sorted(chain_from(machine, spot[0]))
+    if other[0] not in lot or not fit_as_shifts(machine, lot, modulo, told):
         raise BadPaper("shifts")
     by_wheel = {wheel: shift for wheel, shift in zip(lot, told)}
     apart = by_wheel[spot[0]] + spot[1] - by_wheel[other[0]] - other[1]

@@ -5,7 +5,7 @@ from math import gcd
 from evenwheels.closed import simple_ways
 from evenwheels.errors import BadSpot, Never, OutOfPlace, TooGreat
 from evenwheels.machines import MOST_TOUCHES, is_spot_of, need_machine, need_touch, spots
-from evenwheels.shifts import wheels_told
+from evenwheels.shifts import are_of_one_class, wheels_told
 from evenwheels.web import across_touches, ways_by_spot
 
 
@@ -37,14 +37,14 @@ def g_with(machine, spot, other):
 def is_idle(machine, spot, other):
     """Whether a FREE PAIR is IDLE."""
     need_free_pair(machine, spot, other)
-    return are_idle(wheels_told(machine), spot, other)
+    return are_of_one_class(wheels_told(machine), spot, other)
 
 
 def idle_pairs(machine):
     """A rising list of all IDLE pairs."""
     need_machine(machine)
     told = wheels_told(machine)
-    return [(spot, other) for spot, other in _free_pairs(machine) if are_idle(told, spot, other)]
+    return [(spot, other) for spot, other in _free_pairs(machine) if are_of_one_class(told, spot, other)]
 
 
 def how_many_classes(machine):
@@ -106,13 +106,6 @@ def with_pair(machine, spot, other):
 def without_touch(machine, touch):
     """What has all TOUCHES but one, of what are known to be a MACHINE and a number of a TOUCH."""
     return (machine[0], machine[1][:touch] + machine[1][touch + 1:])
-
-
-def are_idle(told, spot, other):
-    """Whether two SPOTS are of one LOT and their MISS is 0, by what wheels_told tells."""
-    lot, turn, greatest = told[spot[0]]
-    across, turned, _ = told[other[0]]
-    return lot == across and (turn + spot[1] - turned - other[1]) % greatest == 0
 
 
 def _free(machine):

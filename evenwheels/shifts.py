@@ -5,7 +5,7 @@ from math import gcd
 from evenwheels.errors import OutOfPlace
 from evenwheels.fractions import is_tuple_of, is_whole
 from evenwheels.machines import need_machine, need_spot_on, need_wheel
-from evenwheels.web import chain_from, chains, lot_of
+from evenwheels.web import chain_from, chains
 
 
 def need_modulo(thing):
@@ -28,27 +28,13 @@ def are_shifts(machine, wheel, modulo, thing):
     """Whether anything is SHIFTS of a wheel's LOT; looked at as it stands, with no search."""
     need_wheel(machine, wheel)
     need_modulo(modulo)
-    lot = lot_of(machine, wheel)
-    if not is_tuple_of(thing, len(lot)):
-        return False
-    for member, shift in zip(lot, thing):
-        if not is_whole(shift) or not 0 <= shift < modulo or machine[0][member] % modulo != 0:
-            return False
-    told = {member: shift for member, shift in zip(lot, thing)}
-    return thing[0] == 0 and all([left % modulo == 0 for left in _left_at_touches(machine, told)])
+    return fit_as_shifts(machine, sorted(chain_from(machine, wheel)), modulo, thing)
 
 
 def g_of(machine, wheel):
     """G of a wheel's LOT: the greatest number modulo which it has SHIFTS."""
     need_wheel(machine, wheel)
     return _greatest(machine, chain_from(machine, wheel))
-
-
-def greatest_shifts(machine, wheel):
-    """G of a wheel's LOT, and its SHIFTS modulo G, of what are known to be a MACHINE and a number of a wheel."""
-    chain = chain_from(machine, wheel)
-    greatest = _greatest(machine, chain)
-    return (greatest, _shifts_by(chain, greatest))
 
 
 def miss(machine, spot, other):
@@ -62,6 +48,17 @@ def miss(machine, spot, other):
     return (spot[1] - chain[other[0]] - other[1]) % _greatest(machine, chain)
 
 
+def fit_as_shifts(machine, lot, modulo, thing):
+    """Whether anything is SHIFTS modulo a number of what are known to be a MACHINE and a LOT of it, rising."""
+    if not is_tuple_of(thing, len(lot)):
+        return False
+    for member, shift in zip(lot, thing):
+        if not is_whole(shift) or not 0 <= shift < modulo or machine[0][member] % modulo != 0:
+            return False
+    told = {member: shift for member, shift in zip(lot, thing)}
+    return thing[0] == 0 and all([left % modulo == 0 for left in _left_at_touches(machine, told)])
+
+
 def wheels_told(machine):
     """For each wheel the number of its LOT, its SHIFT modulo G, and G, in a list, of what is known to be a MACHINE."""
     told = [None] * len(machine[0])
@@ -70,6 +67,13 @@ def wheels_told(machine):
         for wheel, turn in chain.items():
             told[wheel] = (number, turn % greatest, greatest)
     return told
+
+
+def are_of_one_class(told, spot, other):
+    """Whether two SPOTS are of one LOT and their MISS is 0, by what wheels_told tells."""
+    lot, shift, greatest = told[spot[0]]
+    across, beside, _ = told[other[0]]
+    return lot == across and (shift + spot[1] - beside - other[1]) % greatest == 0
 
 
 def _greatest(machine, chain):

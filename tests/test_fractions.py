@@ -131,3 +131,11 @@ class Reckoned(WheelTest):
     def test_total(self):
         self.assertEqual(total([]), (0, 1))
         self.assertEqual(total(((1, 2), (1, 3), (1, 6))), (1, 1))
+        self.assertEqual(total([(-7, 6)]), (-7, 6))
+        self.assertEqual(total([(1, 6), (-1, 10), (1, 15), (5, 1)]), (77, 15))
+        self.assertEqual(total([(1, 2 ** at) for at in range(1, 301)]), (2 ** 300 - 1, 2 ** 300))
+        chance = random.Random(4)
+        worths = [Fraction(chance.randint(-99, 99), chance.randint(1, 99)) for _ in range(30)]
+        told = total([(worth.numerator, worth.denominator) for worth in worths])
+        self.assertEqual(Fraction(*told), sum(worths))
+        self.assertTrue(is_fraction(told))

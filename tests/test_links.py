@@ -36,6 +36,32 @@ def plain_linked(machine, spot, link):
     return None
 
 
+# Of fifteen wheels of two nine in a row; one wheel of thirty of whose touches all but one go by two.
+CHAIN_OF_TWOS = ((2,) * 15, tuple(((wheel, 0), (wheel + 1, 1)) for wheel in range(8)))
+CROSSWISE = ((30,), (((0, 0), (0, 2)), ((0, 1), (0, 28)), ((0, 4), (0, 6)), ((0, 8), (0, 10)), ((0, 12), (0, 14)),
+                     ((0, 16), (0, 18)), ((0, 20), (0, 22)), ((0, 24), (0, 26))))
+
+
+def plain_links_from(machine, begin):
+    """For each spot of its class the links to it, by a search that looks at every beat."""
+    across = {spot: other for pair in machine[1] for spot, other in (pair, pair[::-1])}
+    told = {begin: ()}
+    latest = [begin]
+    while latest:
+        found = []
+        for wheel, place in latest:
+            for beats in range(221):
+                at = (wheel, (place - beats) % machine[0][wheel])
+                if at in across:
+                    beyond, beside = across[at]
+                    there = (beyond, (beside + beats) % machine[0][beyond])
+                    if there not in told:
+                        told[there] = told[(wheel, place)] + ((at, beats),)
+                        found.append(there)
+        latest = found
+    return told
+
+
 class Linked(WheelTest):
     def test_by_hand(self):
         self.assertEqual(linked(TWO_WHEELS, (0, 0), ((0, 0), 0)), (1, 0))
@@ -152,6 +178,29 @@ class Made(WheelTest):
         self.assertEqual(class_paper(SEVERAL_LOTS, (0, 0), (2, 1))[0], "one")
         self.assertEqual(class_paper(SEVERAL_LOTS, (0, 0), (3, 0))[0], "lots")
         self.assertEqual(class_paper(SEVERAL_LOTS, (3, 0), (4, 0))[0], "lots")
+
+
+class WhichPaper(WheelTest):
+    """Just the links that a look at every beat of every spot tells: as few as can be, the first of these."""
+
+    def test_by_every_beat(self):
+        chance = random.Random(63)
+        for machine in MACHINES + [LATEST, CHAIN_OF_TWOS, CROSSWISE] + some_machines()[::5]:
+            begin = chance.choice(spots(machine))
+            told = plain_links_from(machine, begin)
+            for other in spots(machine):
+                paper = class_paper(machine, begin, other)
+                self.assertEqual(paper[0] == "one", other in told)
+                if other in told:
+                    self.assertEqual(paper, ("one", told[other]))
+
+    def test_by_hand(self):
+        self.assertEqual(class_paper(TWO_WHEELS, (0, 1), (0, 0)), ("one", (((0, 0), 1), ((1, 0), 4))))
+        self.assertEqual(class_paper(LATEST, (0, 4), (1, 11)), ("one", (((0, 4), 0),)))
+        self.assertEqual(class_paper(LATEST, (0, 5), (1, 11)), ("one", (((0, 4), 170),)))
+        self.assertEqual(class_paper(CHAIN_OF_TWOS, (0, 0), (14, 1)), ("lots", tuple(range(9))))
+        self.assertEqual(class_paper(CROSSWISE, (0, 0), (0, 29)), ("one", plain_links_from(CROSSWISE, (0, 0))[(0, 29)]))
+        self.assertEqual(class_paper(WINDING, (0, 0), (2, 2)), ("shifts", 4, shifts(WINDING, 0, 4)))
 
 
 class LetBy(WheelTest):
