@@ -3,7 +3,7 @@
 from evenwheels.errors import OutOfPlace
 from evenwheels.fractions import is_tuple_of
 from evenwheels.machines import is_spot_of, need_machine
-from evenwheels.web import across_touches, chains
+from evenwheels.web import across_touches, chains, rolled, ways_by_spot
 
 
 def are_names(machine, thing):
@@ -75,6 +75,41 @@ def least_names(machine, other):
             gone = [number for number, _ in fitting[0].values()]
             left = [number for number in left if number not in gone]
     return tuple([told[wheel] for wheel in range(len(machine[0]))])
+
+
+def code_of(machine):
+    """A tuple that two of what are known to be MACHINES have alike just where they are ALIKE."""
+    across = across_touches(machine)
+    along = {spot: (way[3], rolled(machine, spot, way[3])) for spot, way in ways_by_spot(machine).items()}
+    codes = []
+    for chain in chains(machine):
+        touching = [spot for spot in along if spot[0] in chain]
+        if len(touching) > 0:
+            codes.append(_least_code(along, across, touching))
+        else:
+            codes.append(((machine[0][min(chain)], 0, 0),))
+    return tuple(sorted(codes))
+
+
+def _least_code(along, across, touching):
+    least = min([along[spot][0] for spot in touching])
+    return min([_code_from(along, across, spot) for spot in touching if along[spot][0] == least])
+
+
+def _code_from(along, across, begin):
+    # A LOT as seen from one SPOT of a TOUCH: others are numbered as they come, next along the wheel or across.
+    number_of = {begin: 0}
+    order = [begin]
+    code = []
+    while len(code) < len(order):
+        here = order[len(code)]
+        gap, follows = along[here]
+        for beyond in (follows, across[here]):
+            if beyond not in number_of:
+                number_of[beyond] = len(order)
+                order.append(beyond)
+        code.append((gap, number_of[follows], number_of[across[here]]))
+    return tuple(code)
 
 
 def _sight_of(machine):

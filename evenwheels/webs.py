@@ -1,6 +1,6 @@
 """MACHINES that have ONE WEB: all that crossing over makes of one, papers that show it, and the WORD MACHINE."""
 
-from evenwheels.alike import are_names, least_names, machine_named
+from evenwheels.alike import are_names, code_of, least_names, machine_named
 from evenwheels.crossing import machine_of_rounds, need_rounds, rounds
 from evenwheels.errors import BadPaper, Never, OutOfPlace, TooGreat
 from evenwheels.fractions import is_tuple_of, is_whole
@@ -51,11 +51,11 @@ def family(machine):
     """The first tuples of TOUCHES of all MACHINES, no two ALIKE, that crossing over makes: a list, fewer ahead."""
     need_machine(machine)
     found = []
-    by_counts = {}
+    known = {}
     for numbers, made in _all_crossed(machine):
-        ahead = by_counts.setdefault(tuple(sorted(made[0])), [])
-        if not _is_alike_one_of(made, ahead):
-            ahead.append(made)
+        code = code_of(made)
+        if code not in known:
+            known[code] = True
             found.append(numbers)
     return found
 
@@ -102,13 +102,6 @@ def _all_crossed(machine):
         if len(gone) <= MOST_WHEELS:
             found.append((numbers, machine_of_rounds(machine, gone)))
     return found
-
-
-def _is_alike_one_of(machine, others):
-    for other in others:
-        if least_names(machine, other) is not None:
-            return True
-    return False
 
 
 def _determinant(square):

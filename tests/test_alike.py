@@ -4,7 +4,7 @@ import random
 from itertools import permutations, product
 from math import factorial
 
-from evenwheels.alike import are_names, many_names, named, names_between
+from evenwheels.alike import are_names, code_of, many_names, named, names_between
 from evenwheels.crossing import crossed, places_crossed
 from evenwheels.errors import BadMachine, OutOfPlace, TooGreat
 from evenwheels.loads import readings
@@ -129,11 +129,13 @@ class NamesBetween(WheelTest):
         together = ((4, 4), (((0, 0), (1, 0)), ((0, 2), (1, 2))))
         self.assertIsNone(names_between(apart, together))
         self.assertIsNone(names_between(together, apart))
+        self.assertNotEqual(code_of(apart), code_of(together))
         # One lot folded on another one that is half of it, beside what has all counts alike.
         twofold = ((4, 4, 2, 2), (((0, 0), (1, 0)), ((0, 2), (1, 2)), ((2, 0), (2, 1)), ((3, 0), (3, 1))))
         single = ((4, 4, 2, 2), (((0, 0), (0, 2)), ((1, 0), (1, 2)), ((2, 0), (3, 0)), ((2, 1), (3, 1))))
         self.assertIsNone(names_between(twofold, single))
         self.assertIsNone(names_between(single, twofold))
+        self.assertNotEqual(code_of(twofold), code_of(single))
         fewer = ((4, 4), (((0, 0), (1, 0)), ((0, 1), (1, 1))))
         self.assertIsNone(names_between(together, fewer))
 
@@ -153,6 +155,7 @@ class NamesBetween(WheelTest):
                 if sorted(machine[0]) == sorted(other[0]) and len(machine[1]) == len(other[1]):
                     fitting = [names for names in all_names(machine) if plain_named(machine, names) == other]
                     self.assertEqual(names_between(machine, other), min(fitting, default=None))
+                    self.assertEqual(code_of(machine) == code_of(other), bool(fitting))
                     found += not fitting
         self.assertGreater(found, 20)
 
@@ -163,6 +166,7 @@ class NamesBetween(WheelTest):
             told = names_between(machine, named(machine, names))
             self.assertLessEqual(told, names)
             self.assertEqual(named(machine, told), named(machine, names))
+            self.assertEqual(code_of(named(machine, names)), code_of(machine))
             for kind in (told, *told):
                 self.assertIs(type(kind), tuple)
 

@@ -225,7 +225,7 @@ class Family(WheelTest):
         self.assertEqual(family(((4,), (((0, 0), (0, 1)), ((0, 2), (0, 3))))), [(), (0,), (0, 1)])
 
     def test_the_first_of_each(self):
-        for machine in [machine for machine in some_machines() if len(machine[1]) <= 5] + [EIGHT]:
+        for machine in [machine for machine in some_machines() if len(machine[1]) <= 5] + [EIGHT, word_machine(3)]:
             told = family(machine)
             self.assertIs(type(told), list)
             kept = []
