@@ -4,6 +4,7 @@ import random
 import unittest
 from fractions import Fraction
 
+from evenwheels.errors import BadMachine
 from evenwheels.loads import one_at, readings
 from evenwheels.machines import machine_of, spots
 
@@ -237,6 +238,18 @@ class WheelTest(unittest.TestCase):
 
     def assert_text(self, error, call, *args, **named):
         self.assert_refused(error, {}, call, *args, **named)
+
+    def assert_no_machine_ahead(self, call, *more):
+        """What is no machine is refused ahead of all else that is handed in, by its place."""
+        for thing in odd_things():
+            with self.assertRaises(BadMachine):
+                call(thing, *more)
+        self.assert_place(BadMachine, None, call, [(2,), ()], *more)
+        self.assert_place(BadMachine, "counts", call, ((), ()), *more)
+        self.assert_place(BadMachine, "counts", call, ((0,), ()), *more)
+        self.assert_place(BadMachine, "touches", call, ((2, 3), []), *more)
+        self.assert_place(BadMachine, 0, call, ((2,), (((0, 0), (0, 0)),)), *more)
+        self.assert_place(BadMachine, 1, call, ((4,), (((0, 0), (0, 1)), ((0, 1), (0, 2)))), *more)
 
     def assert_fractions(self, thing):
         """All that stands in tuples or lists is fractions in lowest terms, of ints."""

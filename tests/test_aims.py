@@ -4,7 +4,7 @@ import random
 from fractions import Fraction
 
 from evenwheels.aims import aim, least_aim
-from evenwheels.errors import BadLoad, BadMachine, BadSpot, Never, NoTouch, OutOfPlace
+from evenwheels.errors import BadLoad, BadSpot, Never, NoTouch, OutOfPlace
 from evenwheels.fractions import is_fraction
 from evenwheels.loads import added, behind, empty, is_load, one_at, readings, scaled, squares
 from evenwheels.machines import spots
@@ -158,11 +158,7 @@ class Refused(WheelTest):
 
     def test_no_machine_ahead_of_all_else(self):
         for call, many in ((aim, 5), (least_aim, 4)):
-            for thing in odd_things() + [((0,), ()), ((2, 3), [])]:
-                with self.assertRaises(BadMachine):
-                    call(thing, *[None] * many)
-            self.assert_place(BadMachine, "counts", call, ((), ()), *[None] * many)
-            self.assert_place(BadMachine, 0, call, ((2,), (((0, 0), (0, 0)),)), *[None] * many)
+            self.assert_no_machine_ahead(call, *[None] * many)
 
     def test_by_names_and_told_again(self):
         load = whole_load([1, 2], [5, 6, 7])

@@ -136,6 +136,12 @@ class NamesBetween(WheelTest):
         self.assertIsNone(names_between(twofold, single))
         self.assertIsNone(names_between(single, twofold))
         self.assertNotEqual(code_of(twofold), code_of(single))
+        # A ring of three wheels; two that touch twice beside one that touches itself: all wheels look alike alone.
+        ring = ((4, 4, 4), (((0, 0), (1, 0)), ((0, 2), (2, 2)), ((1, 2), (2, 0))))
+        beside = ((4, 4, 4), (((0, 0), (1, 0)), ((0, 2), (1, 2)), ((2, 0), (2, 2))))
+        self.assertIsNone(names_between(beside, ring))
+        self.assertIsNone(names_between(ring, beside))
+        self.assertNotEqual(code_of(ring), code_of(beside))
         fewer = ((4, 4), (((0, 0), (1, 0)), ((0, 1), (1, 1))))
         self.assertIsNone(names_between(together, fewer))
 
@@ -237,19 +243,11 @@ class CrossedOver(WheelTest):
 class NoMachine(WheelTest):
     def test_ahead_of_all_else(self):
         for call, many in ((are_names, 1), (named, 1), (names_between, 1), (many_names, 0)):
-            for thing in odd_things() + [((0,), ()), ((2, 3), [])]:
-                with self.assertRaises(BadMachine):
-                    call(thing, *[None] * many)
-            self.assert_place(BadMachine, "counts", call, ((), ()), *[None] * many)
-            self.assert_place(BadMachine, 0, call, ((2,), (((0, 0), (0, 0)),)), *[None] * many)
+            self.assert_no_machine_ahead(call, *[None] * many)
 
     def test_the_second_behind_the_first(self):
-        for thing in odd_things():
-            with self.assertRaises(BadMachine):
-                names_between(TWICE, thing)
-        self.assert_place(BadMachine, "counts", names_between, TWICE, ((), ()))
+        self.assert_no_machine_ahead(lambda other: names_between(TWICE, other))
         self.assert_place(BadMachine, "touches", names_between, ((1,), []), ((), ()))
-        self.assert_place(BadMachine, "touches", names_between, TWICE, ((1,), []))
 
     def test_by_names_and_told_again(self):
         self.assertIs(are_names(machine=ONE_CELL, thing=((0, 0),)), True)

@@ -4,7 +4,7 @@ import random
 from itertools import combinations
 
 from evenwheels.crossing import crossed, load_crossed, places_crossed
-from evenwheels.errors import BadLoad, BadMachine, OutOfPlace, TooGreat
+from evenwheels.errors import BadLoad, OutOfPlace, TooGreat
 from evenwheels.loads import beat, behind, empty, is_load, readings
 from evenwheels.machines import is_machine, machine_of, spots
 from evenwheels.rules import whole_rule
@@ -215,11 +215,7 @@ class Refused(WheelTest):
 class NoMachine(WheelTest):
     def test_ahead_of_all_else(self):
         for call, many in ((crossed, 1), (places_crossed, 1), (load_crossed, 2)):
-            for thing in odd_things() + [((0,), ()), ((2, 3), [])]:
-                with self.assertRaises(BadMachine):
-                    call(thing, *[None] * many)
-            self.assert_place(BadMachine, "counts", call, ((), ()), *[None] * many)
-            self.assert_place(BadMachine, 0, call, ((2,), (((0, 0), (0, 0)),)), *[None] * many)
+            self.assert_no_machine_ahead(call, *[None] * many)
 
     def test_by_names_and_told_again(self):
         load = whole_load([1, 2], [3, 4, 5])

@@ -7,7 +7,7 @@ from evenwheels.aims import aim
 from evenwheels.classes import class_sums
 from evenwheels.ends import evened, is_even
 from evenwheels.engine import Engine
-from evenwheels.errors import BadLoad, BadMachine, BadSpot, Never, NoTouch, OutOfPlace, TooGreat
+from evenwheels.errors import BadLoad, BadSpot, Never, NoTouch, OutOfPlace, TooGreat
 from evenwheels.fractions import less, plus
 from evenwheels.loads import added, behind, empty, one_at, readings, scaled, squares
 from evenwheels.machines import spots
@@ -57,12 +57,9 @@ class AtFirst(WheelTest):
         self.assertEqual(len(engine), 0)
 
     def test_bad_machines_and_loads(self):
-        for thing in odd_things() + [((0,), ()), ((2, 3), [])]:
-            with self.assertRaises(BadMachine):
-                Engine(thing, None)
-            with self.assertRaises(BadLoad):
-                Engine(TWO_WHEELS, thing)
-        self.assert_place(BadMachine, "counts", Engine, ((), ()), None)
+        self.assert_no_machine_ahead(Engine, None)
+        for thing in odd_things():
+            self.assert_place(BadLoad, None, Engine, TWO_WHEELS, thing)
         self.assert_place(BadLoad, None, Engine, TWICE, empty(TWO_WHEELS))
         self.assert_place(BadLoad, (1, 2), Engine, TWO_WHEELS, (((1, 1), (1, 1)), ((1, 1), (1, 1), (2, 2))))
 

@@ -6,7 +6,7 @@ from math import gcd
 
 from evenwheels.classes import classes
 from evenwheels.ends import evened
-from evenwheels.errors import BadMachine, NoTouch
+from evenwheels.errors import NoTouch
 from evenwheels.lean import core, is_bridge, is_lean, is_needless, lean, parts
 from evenwheels.machines import machine_of
 from evenwheels.more import is_idle, lifted
@@ -201,11 +201,7 @@ class Core(WheelTest):
 class NoMachine(WheelTest):
     def test_ahead_of_all_else(self):
         for call, many in ((is_bridge, 1), (is_needless, 1), (parts, 1), (is_lean, 0), (lean, 0), (core, 0)):
-            for thing in odd_things() + [((0,), ()), ((2, 3), [])]:
-                with self.assertRaises(BadMachine):
-                    call(thing, *[None] * many)
-            self.assert_place(BadMachine, "counts", call, ((), ()), *[None] * many)
-            self.assert_place(BadMachine, 0, call, ((2,), (((0, 0), (0, 0)),)), *[None] * many)
+            self.assert_no_machine_ahead(call, *[None] * many)
 
     def test_by_names_and_told_again(self):
         self.assertIs(is_bridge(machine=TWO_WHEELS, touch=0), True)

@@ -5,7 +5,7 @@ import random
 from evenwheels.classes import classes
 from evenwheels.closed import is_closed, length
 from evenwheels.ends import evened
-from evenwheels.errors import BadMachine, BadSpot, Never, NoTouch, OutOfPlace, TooGreat
+from evenwheels.errors import BadSpot, Never, NoTouch, OutOfPlace, TooGreat
 from evenwheels.machines import cells, is_machine, machine_of, spots
 from evenwheels.more import (
     best_pairs, free_spots, g_with, how_many_classes, idle_pairs, is_idle, lifted, put_on, witness,
@@ -311,11 +311,7 @@ class NoMachine(WheelTest):
         calls = ((free_spots, 0), (put_on, 2), (lifted, 1), (g_with, 2), (is_idle, 2), (idle_pairs, 0),
                  (how_many_classes, 0), (best_pairs, 0), (witness, 2))
         for call, many in calls:
-            for thing in odd_things() + [((0,), ()), ((2, 3), [])]:
-                with self.assertRaises(BadMachine):
-                    call(thing, *[None] * many)
-            self.assert_place(BadMachine, "counts", call, ((), ()), *[None] * many)
-            self.assert_place(BadMachine, 0, call, ((2,), (((0, 0), (0, 0)),)), *[None] * many)
+            self.assert_no_machine_ahead(call, *[None] * many)
 
     def test_by_names(self):
         self.assertEqual(free_spots(machine=ONE_FREE), ((0, 2),))

@@ -4,7 +4,7 @@ import random
 from fractions import Fraction
 
 from evenwheels.ends import evened, is_even
-from evenwheels.errors import BadLoad, BadMachine, BadPaper, Never, OutOfPlace
+from evenwheels.errors import BadLoad, BadPaper, Never, OutOfPlace
 from evenwheels.loads import added, beat, behind, empty, is_load, one_at, scaled
 from evenwheels.machines import cells, spots
 from evenwheels.mirror import mirror, paired, turned
@@ -272,11 +272,7 @@ class Refused(WheelTest):
 
     def test_no_machine_ahead_of_all_else(self):
         for call, many in ((has_past, 2), (depth, 1), (least_past, 2), (no_past, 2), (check_no_past, 3)):
-            for thing in odd_things() + [((0,), ()), ((2, 3), [])]:
-                with self.assertRaises(BadMachine):
-                    call(thing, *[None] * many)
-            self.assert_place(BadMachine, "counts", call, ((), ()), *[None] * many)
-            self.assert_place(BadMachine, 0, call, ((2,), (((0, 0), (0, 0)),)), *[None] * many)
+            self.assert_no_machine_ahead(call, *[None] * many)
 
     def test_by_names_and_told_again(self):
         load = whole_load([5, 2], [3, 4, 1])

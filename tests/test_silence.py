@@ -3,7 +3,7 @@
 import random
 from fractions import Fraction
 
-from evenwheels.errors import BadLoad, BadMachine, BadPaper, BadSpot, Never, NoTouch
+from evenwheels.errors import BadLoad, BadPaper, BadSpot, Never, NoTouch
 from evenwheels.loads import added, behind, empty, is_load, one_at, scaled
 from evenwheels.machines import cells, spots
 from evenwheels.silence import check_telling, is_silent, silent, telling, told_spots
@@ -246,11 +246,7 @@ class NoMachine(WheelTest):
     def test_ahead_of_all_else(self):
         calls = ((silent, 1), (is_silent, 2), (told_spots, 1), (telling, 2), (check_telling, 3))
         for call, many in calls:
-            for thing in odd_things() + [((0,), ()), ((2, 3), [])]:
-                with self.assertRaises(BadMachine):
-                    call(thing, *[None] * many)
-            self.assert_place(BadMachine, "counts", call, ((), ()), *[None] * many)
-            self.assert_place(BadMachine, 0, call, ((2,), (((0, 0), (0, 0)),)), *[None] * many)
+            self.assert_no_machine_ahead(call, *[None] * many)
 
     def test_by_names_and_told_again(self):
         self.assertEqual(len(silent(machine=TWO_WHEELS, window=(0,))), 2)

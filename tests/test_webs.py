@@ -8,7 +8,7 @@ from evenwheels.alike import named, names_between
 from evenwheels.crossing import crossed
 from evenwheels.errors import BadMachine, BadPaper, Never, OutOfPlace, TooGreat
 from evenwheels.loads import one_at, readings
-from evenwheels.machines import cells, is_machine, spots
+from evenwheels.machines import cells, is_machine, machine_of, spots
 from evenwheels.polynomials import worth_at
 from evenwheels.rest import rest_beat, rests
 from evenwheels.rules import left_over
@@ -57,6 +57,23 @@ def small_web_machine(chance):
         machine = random_machine(chance)
         if len(machine[1]) <= 5 and sum(machine[0]) <= 12:
             return machine
+
+
+def machine_of_a_web(chance, many, most):
+    """One of so many touches, of any ways with gaps from 1 to most."""
+    ends = [(touch, side) for touch in range(many) for side in (0, 1)]
+    goes = dict(zip(ends, chance.sample(ends, len(ends))))
+    told, counts = {}, []
+    for end in ends:
+        if end not in told:
+            place = 0
+            while end not in told:
+                told[end] = (len(counts), place)
+                place -= chance.randint(1, most)
+                end = goes[end]
+            counts.append(-place)
+    spot = {end: (wheel, place % counts[wheel]) for end, (wheel, place) in told.items()}
+    return machine_of(tuple(counts), [(spot[(touch, 0)], spot[(touch, 1)]) for touch in range(many)])
 
 
 def some_other(machine, chance):
@@ -111,6 +128,24 @@ class OneWeb(WheelTest):
                 self.assertIs(are_one_web(other, machine), wanted)
                 told[wanted] += 1
         self.assertGreater(min(told.values()), 40)
+
+    def test_lots_that_are_alike_as_often(self):
+        self.assertIs(are_one_web(((2,) * 4, (((0, 0), (1, 0)), ((2, 0), (3, 0)))),
+                                  ((2, 2, 2, 1), (((0, 0), (1, 0)), ((2, 0), (3, 0))))), False)
+        self.assertIs(are_one_web(((1, 2, 1, 2), (((0, 0), (1, 0)), ((2, 0), (3, 0)))),
+                                  ((1, 1, 2, 2), (((0, 0), (2, 1)), ((1, 0), (3, 0))))), True)
+
+    def test_all_sorts_of_webs(self):
+        chance = random.Random(331)
+        told = {True: 0, False: 0}
+        for many in (2, 3, 4, 4, 4):
+            machines = [machine_of_a_web(chance, many, most) for most in (1, 1, 2) for _ in range(12)]
+            for machine, other in combinations(machines, 2):
+                wanted = plain_one_web(machine, other)
+                self.assertIs(are_one_web(machine, other), wanted)
+                self.assertIs(are_one_web(other, machine), wanted)
+                told[wanted] += 1
+        self.assertGreater(min(told.values()), 200)
 
     def test_gaps_of_one_lot_exchanged(self):
         chance = random.Random(322)
@@ -380,18 +415,11 @@ class NoMachine(WheelTest):
     def test_ahead_of_all_else(self):
         calls = ((are_one_web, 1), (cross_paper, 1), (check_cross, 2), (family, 0), (count_of_rounds, 1))
         for call, many in calls:
-            for thing in odd_things() + [((0,), ()), ((2, 3), [])]:
-                with self.assertRaises(BadMachine):
-                    call(thing, *[None] * many)
-            self.assert_place(BadMachine, "counts", call, ((), ()), *[None] * many)
-            self.assert_place(BadMachine, 0, call, ((2,), (((0, 0), (0, 0)),)), *[None] * many)
+            self.assert_no_machine_ahead(call, *[None] * many)
 
     def test_the_second_behind_the_first(self):
         for call, more in ((are_one_web, ()), (cross_paper, ()), (check_cross, (None,))):
-            for thing in odd_things():
-                with self.assertRaises(BadMachine):
-                    call(TWICE, thing, *more)
-            self.assert_place(BadMachine, "counts", call, TWICE, ((), ()), *more)
+            self.assert_no_machine_ahead(lambda other, asked=call, rest=more: asked(TWICE, other, *rest))
             self.assert_place(BadMachine, "touches", call, ((1,), []), ((), ()), *more)
             self.assert_place(BadMachine, None, call, None, ((), ()), *more)
 

@@ -6,7 +6,7 @@ from itertools import combinations
 
 from evenwheels.errors import BadLoad, BadMachine, NoTouch, OutOfPlace
 from evenwheels.loads import beat, behind, empty, is_load, one_at, readings
-from evenwheels.machines import cells, spots
+from evenwheels.machines import cells
 from evenwheels.mirror import mirror, paired, turned
 from evenwheels.polynomials import divided_by, one_less
 from evenwheels.rules import follows, rule_of
